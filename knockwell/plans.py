@@ -86,6 +86,12 @@ def is_thread(value):
     return is_name(name) and is_number(rank, 1, MOST_RANK) and are_steps(steps)
 
 
+def is_name_among(value, names):
+    """Whether this is one of these names, whatever it is."""
+    # Its kind is asked first, so that nothing but texts is ever compared with a name.
+    return isinstance(value, str) and value in names
+
+
 def are_many(value, least, most):
     """Whether this is a list or a tuple of so many."""
     return isinstance(value, (list, tuple)) and least <= len(value) <= most

@@ -117,4 +117,9 @@ def full_plan(top=RUN, bottom=RUN, thread=RUN):
                 threads=[("thra", 1, RUN), ("thrb", 2, thread)])
 
 
+def names_of(one):
+    """What ran in a run, a name for each tick, a point where nobody did; for names of one letter."""
+    return "".join("." if who is None else who[1] for who in one.who())
+
+
 PLACES = [plan_with_top, plan_with_bottom, plan_with_thread]

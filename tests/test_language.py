@@ -86,6 +86,20 @@ class Language(unittest.TestCase):
                 for one in node.comparators:
                     self.assertIn(getattr(one, "value", 0), (None, True, False), name)
 
+    def test_lists_and_no_generators(self):
+        # A class has `__eq__`: so `any`, `all`, `sum`, `min`, `max` and `sorted` take lists, and nothing is `.sort()`ed.
+        for name, node in each_node():
+            self.assertNotIsInstance(node, (ast.GeneratorExp, ast.Yield, ast.YieldFrom), name)
+            if isinstance(node, ast.Attribute):
+                self.assertNotEqual(node.attr, "sort", name)
+
+    def test_finally_only_appends(self):
+        for name, node in each_node():
+            for row in getattr(node, "finalbody", []):
+                self.assertIsInstance(row, ast.Expr, name)
+                self.assertEqual(row.value.func.attr, "append", name)
+                self.assertEqual(len(row.value.args), 1, name)
+
     def test_no_name_is_a_method_here_and_an_attribute_there(self):
         methods, attributes = set(), set()
         for _, node in each_node():
